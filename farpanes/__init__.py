@@ -1,0 +1,1 @@
+"""Farpanes: a screen kept alike over a bad road."""
