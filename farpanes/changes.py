@@ -1,7 +1,7 @@
 """Changes: what leads from one face to another, and what it costs."""
 
 from farpanes.errors import BadChange
-from farpanes.faces import MOST_INK, need_face, need_face_of_size
+from farpanes.faces import MOST_INK, need_face, need_face_like
 from farpanes.kinds import are_signs, is_whole, is_within
 from farpanes.pens import rolled
 
@@ -106,8 +106,8 @@ def part_cost(part):
 def change_of(one, other):
     """A change from one face to another of its size; none of its kind costs less."""
     need_face(one)
+    need_face_like(other, one)
     height = len(one[0])
-    need_face_of_size(other, height, len(one[0][0]))
     # A roll by all rows leaves only blanks, be it up or down, and so does each greater one.
     # Sorted so, the least roll is told of those that cost the same.
     rolls = sorted(range(1 - height, height + 1), key=abs)

@@ -56,6 +56,17 @@ def need_face_of_size(face, height, width):
         raise BadFace("the face has another size")
 
 
+def size_of(face):
+    """The height and the width of a face."""
+    return len(face[0]), len(face[0][0])
+
+
+def need_face_like(face, other):
+    """Raise BadFace of whatever is no face of another one's size."""
+    height, width = size_of(other)
+    need_face_of_size(face, height, width)
+
+
 def blank_cells(width):
     """So many blank cells side by side."""
     return (BLANK,) * width

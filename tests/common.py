@@ -19,6 +19,21 @@ def rows_of(*texts, ink=0):
     return tuple(tuple((sign, 0 if sign == " " else ink) for sign in text) for text in texts)
 
 
+def face_of(*texts, row=0, column=0, ink=0):
+    """A face with the signs of the texts, as rows_of makes its rows."""
+    return rows_of(*texts, ink=ink), row, column
+
+
+# Things that are no face, of any size.
+NO_FACES = NO_TUPLES + [
+    (), (rows_of("ab"),), (rows_of("ab"), 0), (rows_of("ab"), 0, 0, 0), [rows_of("ab"), 0, 0], rows_of("ab", "cd", "ef"),
+    (rows_of("ab"), 1, 0), (rows_of("ab"), 0, 2), (rows_of("ab"), -1, 0), (rows_of("ab"), 0, True),
+    (rows_of("ab"), False, 0), (rows_of("ab", "a"), 0, 0), (rows_of("a%"), 0, 0), (rows_of("a\n"), 0, 0), ((), 0, 0),
+    (((),), 0, 0), (list(rows_of("ab")), 0, 0), (rows_of("ab", ink=8), 0, 0), (rows_of("ab", ink=True), 0, 0),
+    (rows_of("a" * 21), 0, 0), (rows_of(*["a"] * 11), 0, 0), ((["ab"],), 0, 0), (("ab",), 0, 0),
+]
+
+
 def refused(test, kind, call, *told):
     """Fail unless the call raises an error of just that class, one right under ScreenError."""
     try:

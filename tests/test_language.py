@@ -23,6 +23,11 @@ BUILTINS = (
     " KeyError IndexError LookupError ZeroDivisionError ArithmeticError OverflowError RuntimeError NotImplementedError"
     " AttributeError StopIteration"
 ).split()
+BUILTIN_METHODS = (
+    "append clear copy count endswith extend find get index insert isalnum isalpha isdigit islower isspace isupper items"
+    " join keys ljust lower lstrip partition pop remove replace reverse rfind rjust rpartition rsplit rstrip setdefault"
+    " split splitlines startswith strip update upper values zfill bit_length removeprefix removesuffix"
+).split()
 DOUBLE = re.compile("__[a-z]+__")
 
 
@@ -45,6 +50,17 @@ def names_in(tree):
         elif isinstance(node, (ast.FunctionDef, ast.ClassDef)):
             yield node.name
         elif isinstance(node, (ast.MatchAs, ast.MatchStar)) and node.name:
+            yield node.name
+
+
+def names_bound_in(function):
+    """All names that a function binds: parameters, targets, captured ones, caught errors."""
+    for node in ast.walk(function):
+        if isinstance(node, ast.arg):
+            yield node.arg
+        elif isinstance(node, ast.Name) and isinstance(node.ctx, ast.Store):
+            yield node.id
+        elif isinstance(node, (ast.MatchAs, ast.MatchStar, ast.ExceptHandler)) and node.name:
             yield node.name
 
 
@@ -103,6 +119,74 @@ class TestLanguage(unittest.TestCase):
                 if isinstance(node, ast.Attribute) and isinstance(node.ctx, ast.Store):
                     attributes.add(node.attr)
         self.assertEqual(methods & attributes, set())
+
+    def test_methods_are_own_ones_or_allowed(self):
+        own = set()
+        for path, text, tree in sources():
+            for node in ast.walk(tree):
+                if isinstance(node, ast.ClassDef):
+                    own.update(part.name for part in node.body if isinstance(part, ast.FunctionDef))
+        for path, text, tree in sources():
+            for node in ast.walk(tree):
+                if isinstance(node, ast.Call) and isinstance(node.func, ast.Attribute):
+                    self.assertIn(node.func.attr, own | set(BUILTIN_METHODS), path)
+
+    def test_attributes_that_are_read_are_assigned(self):
+        known, read = set(BUILTIN_METHODS), {}
+        for path, text, tree in sources():
+            for node in ast.walk(tree):
+                if isinstance(node, ast.FunctionDef):
+                    known.add(node.name)
+                elif isinstance(node, ast.Attribute) and isinstance(node.ctx, ast.Store):
+                    known.add(node.attr)
+                elif isinstance(node, ast.Attribute):
+                    read[node.attr] = path
+        self.assertEqual({name: path for name, path in read.items() if name not in known}, {})
+
+    def test_names_at_module_level_are_bound_once_and_shadowed_nowhere(self):
+        for path, text, tree in sources():
+            bound, barred = [], set()
+            for node in tree.body:
+                if isinstance(node, ast.ImportFrom):
+                    bound += [alias.asname or alias.name for alias in node.names]
+                    barred.update(alias.asname or alias.name for alias in node.names)
+                elif isinstance(node, (ast.FunctionDef, ast.ClassDef)):
+                    bound.append(node.name)
+                    barred.update([node.name] * isinstance(node, ast.ClassDef))
+                elif isinstance(node, ast.Assign):
+                    bound += [target.id for target in node.targets]
+            self.assertEqual(len(bound), len(set(bound)), path)
+            for function in ast.walk(tree):
+                if isinstance(function, ast.FunctionDef):
+                    for name in names_bound_in(function):
+                        self.assertNotIn(name, barred, f"{path}: {function.name}")
+                        self.assertFalse(hasattr(builtins, name), f"{path}: {function.name}: {name}")
+
+    def test_no_two_files_import_from_each_other_and_all_imports_are_used(self):
+        needs = {}
+        for path, text, tree in sources():
+            imports = [node for node in tree.body if isinstance(node, ast.ImportFrom)]
+            needs[path.stem] = {node.module.split(".")[1] for node in imports}
+            used = {node.id for node in ast.walk(tree) if isinstance(node, ast.Name)}
+            for node in imports:
+                for alias in node.names:
+                    self.assertIn(alias.name, used, path)
+        while needs:
+            free = [name for name in needs if not needs[name]]
+            self.assertTrue(free, needs)
+            needs = {name: needs[name] - set(free) for name in needs if name not in free}
+
+    def test_all_imports_name_the_file_that_defines_the_name(self):
+        defined = {}
+        for path, text, tree in sources():
+            functions = [node.name for node in tree.body if isinstance(node, (ast.FunctionDef, ast.ClassDef))]
+            values = [node.targets[0].id for node in tree.body if isinstance(node, ast.Assign)]
+            defined[f"farpanes.{path.stem}"] = functions + values
+        for path, text, tree in sources():
+            for node in tree.body:
+                if isinstance(node, ast.ImportFrom):
+                    for alias in node.names:
+                        self.assertIn(alias.name, defined[node.module], path)
 
     def test_messages_name_nothing_that_was_handed_in(self):
         # A message made of a thing handed in may itself fail: Python refuses to write out very long numbers.
