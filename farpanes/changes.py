@@ -43,6 +43,11 @@ def changed(face, change):
     """The face with all parts of the change done, in turn."""
     need_face(face)
     need_change(change)
+    return parts_done(face, change)
+
+
+def parts_done(face, change):
+    """The face with all parts done of a change that was looked at ahead; BadChange where it has no such place."""
     now = face
     for part in change:
         now = part_done(now, part)

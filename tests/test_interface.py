@@ -10,6 +10,9 @@ FUNCTIONS = {
     "talks": {"written_talk": 1, "read_talk": 1},
     "changes": {"need_change": 1, "changed": 2, "cost": 1, "change_of": 2},
     "papers": {"written_change": 1, "read_change": 1},
+    "panes": {"need_layout": 1, "areas": 3, "joined": 5, "parted": 2},
+    "words": {"written_layout": 1, "read_layout": 1},
+    "films": {"need_film": 1, "face_at": 2, "cost_of": 1, "filmed": 1, "cut": 3, "spliced": 2, "slowed": 2},
 }
 
 CLASSES = {
@@ -20,6 +23,10 @@ CLASSES = {
     ("keys", "Typer"): {"__init__": 0, "press": 1, "tick": 0, "heard": 1, "pressed": 0},
     ("keys", "Board"): {"__init__": 0, "took": 1},
     ("guesses", "Guesser"): {"__init__": 1, "press": 1, "came": 2, "shown": 0},
+    ("desks", "Desk"): {
+        "__init__": 3, "split": 4, "close": 1, "swap": 2, "resize": 2, "choose": 1, "write": 2, "undo": 0, "layout": 0,
+        "chosen": 0, "pane": 1, "face": 0,
+    },
 }
 
 
